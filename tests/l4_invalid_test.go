@@ -91,22 +91,30 @@ func TestNoNumberOfNoState(t *testing.T) {
 	}
 }
 
-func TestStatesWhereOfNoTruth(t *testing.T) {
+// noTruths returns lists that are no truths over two variables.
+func noTruths() []noExpression {
+	var list []noExpression
 	for _, c := range noExpressions() {
 		if c.vars != 2 {
 			continue
 		}
-		wantWhere(t, c.name, pair(), c.list)
+		list = append(list, c)
 		if len(c.list) > 0 {
-			wantWhere(t, c.name+", and a truth", pair(), append(slices.Clone(c.list), always()...))
+			list = append(list, noExpression{c.name + ", and a truth", append(slices.Clone(c.list), always()...), 2})
 		}
 	}
-	for _, list := range [][]impl.Term{
+	for _, number := range [][]impl.Term{
 		terms(num(1)), terms(num(0)), terms(variable(0)), plus(0, 1), append(always(), num(1)), append(always(), variable(1)), constants(maxTerms),
 	} {
-		wantWhere(t, "a number", pair(), list)
+		list = append(list, noExpression{"a number", number, 2})
 	}
-	wantWhere(t, "too many terms", pair(), append(constants(maxTerms), of(opEqual, 0, 1)))
+	return append(list, noExpression{"too many terms", append(constants(maxTerms), of(opEqual, 0, 1)), 2})
+}
+
+func TestStatesWhereOfNoTruth(t *testing.T) {
+	for _, c := range noTruths() {
+		wantWhere(t, c.name, pair(), c.list)
+	}
 	wantWhere(t, "a variable of other systems", oneVar(0, 3, 0), compared(opLess, 1, 9))
 	wantWhere(t, "one that is not needed", oneVar(0, 3, 0), append(terms(variable(1)), compared(opEqual, 0, 0)...))
 }
